@@ -15,6 +15,7 @@ import (
 	"scantling/node"
 	"scantling/parse"
 	"scantling/print"
+	"scantling/sample"
 )
 
 var (
@@ -24,17 +25,11 @@ var (
 )
 
 // What descriptions are built of.
-func empty() api.Desc            { return node.Leaf(api.Node{Kind: api.Empty}) }
-func set(a api.Class) api.Desc   { return node.Leaf(api.Node{Kind: api.Bytes, Class: a}) }
-func text(s string) api.Desc     { return node.Leaf(api.Node{Kind: api.Text, Text: s}) }
-func seq(a, b api.Desc) api.Desc { return node.Pair(api.Seq, a, b) }
-func or(a, b api.Desc) api.Desc  { return node.Pair(api.Or, a, b) }
-func star(a api.Desc) api.Desc   { return node.Wrap(api.Star, 0, 0, a) }
-func frame(a api.Desc) api.Desc  { return node.Wrap(api.Frame, 0, 0, a) }
-func wide(a api.Desc) api.Desc   { return node.Wrap(api.Wide, 0, 0, a) }
-func rep(lo, hi int, a api.Desc) api.Desc {
-	return node.Wrap(api.Rep, lo, hi, a)
-}
+var (
+	empty, set, text       = sample.Empty, sample.Bytes, sample.Text
+	seq, or                = sample.Seq, sample.Or
+	star, rep, frame, wide = sample.Star, sample.Rep, sample.Frame, sample.Wide
+)
 
 // nested is the description in so many of those of f.
 func nested(n int, d api.Desc, f func(d api.Desc) api.Desc) api.Desc {
@@ -44,33 +39,9 @@ func nested(n int, d api.Desc, f func(d api.Desc) api.Desc) api.Desc {
 	return d
 }
 
-// descs are all descriptions of n nodes, of a few leaves and bounds.
-func descs(n int) []api.Desc {
-	if n == 1 {
-		return []api.Desc{empty(), set(some), text(`)|(é`)}
-	}
-	var list []api.Desc
-	for _, a := range descs(n - 1) {
-		list = append(list, star(a), rep(1, 255, a), frame(a), wide(a))
-	}
-	for k := 1; k < n-1; k++ {
-		seconds := descs(n - 1 - k)
-		for _, a := range descs(k) {
-			for _, b := range seconds {
-				list = append(list, seq(a, b), or(a, b))
-			}
-		}
-	}
-	return list
-}
-
-// descsTo are all of up to n nodes.
+// descsTo are all descriptions of up to n nodes, of a few leaves and bounds.
 func descsTo(n int) []api.Desc {
-	var list []api.Desc
-	for k := 1; k <= n; k++ {
-		list = append(list, descs(k)...)
-	}
-	return list
+	return sample.AllTo(n, []api.Desc{empty(), set(some), text(`)|(é`)}, [2]int{1, 255})
 }
 
 // samples are descriptions that have much in them.
@@ -495,24 +466,6 @@ func TestMostNodesAreRead(t *testing.T) {
 	}
 }
 
-// chain is a Bytes in so many nodes of the kind, each the last part of the next one; a Seq's or an Or's first part is a Bytes too.
-func chain(steps, kind int) api.Desc {
-	dot := api.Node{Kind: api.Bytes, Class: all}
-	two := kind == api.Seq || kind == api.Or
-	list := []api.Node{dot}
-	if two {
-		list = slices.Repeat(list, steps+1)
-	}
-	for i := range steps {
-		n := api.Node{Kind: kind, A: len(list) - 1}
-		if two {
-			n.A, n.B = steps-1-i, len(list)-1
-		}
-		list = append(list, n)
-	}
-	return api.Desc{Nodes: list}
-}
-
 // P6.1: descriptions that are long and deep, of more nodes than may be read.
 func TestTextOfLongOnes(t *testing.T) {
 	const n = 1 << 18
@@ -532,7 +485,7 @@ func TestTextOfLongOnes(t *testing.T) {
 		if x.deep == n-1 { // The innermost part stands as it is.
 			want = strings.Replace(want, "(.)", ".", 1)
 		}
-		d := chain(n, x.kind)
+		d := sample.Chain(n, api.Node{Kind: api.Bytes, Class: all}, api.Node{Kind: x.kind})
 		if !node.Form(d) || print.Text(d) != want || print.Deep(d) != x.deep {
 			t.Errorf("the kind %d: deep by %d", x.kind, print.Deep(d))
 		}
